@@ -1,0 +1,1 @@
+"""Dotscreen: grey pictures made to dots of few inks."""
