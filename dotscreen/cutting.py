@@ -1,12 +1,11 @@
 """Pictures cut up into pieces, and pieces put together again."""
 
-from dotscreen.errors import NoMeet, OutOfPicture
-from dotscreen.pictures import Picture, ask_mosts, part_of, size_of
+from dotscreen.errors import NoMeet
+from dotscreen.pictures import Picture, ask_mosts, ask_size, part_of, size_of
 
 
 def cut_up(picture, high, wide):
-    if high < 1 or wide < 1:
-        raise OutOfPicture("a piece would have no cell")
+    ask_size(high, wide)
     size = size_of(picture)
     pieces = []
     for top in range(0, size[0], high):

@@ -1,27 +1,17 @@
 """Pictures: rows of cells with shades, their parts, and pictures joined."""
 
 from dotscreen.errors import NoMeet, NoPicture, OutOfPicture
+from dotscreen.grids import fault_of, own_rows
 
 
 class Picture:
     def __init__(self, most, rows):
-        # The asker may go on changing the lists, so the picture keeps tuples of its own.
-        own_rows = tuple([tuple(row) for row in rows])
-        ask_shades(most, own_rows)
+        kept = own_rows(rows)
+        fault = fault_of(kept, 0, most)
+        if fault is not None:
+            raise NoPicture(fault)
         self.most = most
-        self.rows = own_rows
-
-
-def ask_shades(most, rows):
-    if most < 1:
-        raise NoPicture("the most is below 1")
-    if len(rows) == 0 or len(rows[0]) == 0:
-        raise NoPicture("there are no cells")
-    for row in rows:
-        if len(row) != len(rows[0]):
-            raise NoPicture("the rows' lengths differ")
-        if min(row) < 0 or max(row) > most:
-            raise NoPicture("a shade is not from 0 to the most")
+        self.rows = kept
 
 
 def high(picture):
@@ -50,9 +40,13 @@ def shades_sum(picture):
     return sum([sum(row) for row in picture.rows])
 
 
-def part_of(picture, top, left, high, wide):
+def ask_size(high, wide):
     if high < 1 or wide < 1:
-        raise OutOfPicture("the part would have no cell")
+        raise OutOfPicture("there would be no cell")
+
+
+def part_of(picture, top, left, high, wide):
+    ask_size(high, wide)
     # A part lies within the picture just where its first and its last cell do.
     last = (top + high - 1, left + wide - 1)
     if not has_cell(picture, (top, left)) or not has_cell(picture, last):
