@@ -30,9 +30,13 @@ def has_cell(picture, cell):
     return 0 <= cell[0] < high(picture) and 0 <= cell[1] < wide(picture)
 
 
-def shade_at(picture, cell):
+def ask_cell(picture, cell):
     if not has_cell(picture, cell):
         raise OutOfPicture("the picture has no such cell")
+
+
+def shade_at(picture, cell):
+    ask_cell(picture, cell)
     return picture.rows[cell[0]][cell[1]]
 
 
@@ -45,13 +49,27 @@ def ask_size(high, wide):
         raise OutOfPicture("there would be no cell")
 
 
-def part_of(picture, top, left, high, wide):
+def ask_part(picture, top, left, high, wide):
     ask_size(high, wide)
     # A part lies within the picture just where its first and its last cell do.
-    last = (top + high - 1, left + wide - 1)
-    if not has_cell(picture, (top, left)) or not has_cell(picture, last):
-        raise OutOfPicture("the part would have a cell that is not the picture's")
+    ask_cell(picture, (top, left))
+    ask_cell(picture, (top + high - 1, left + wide - 1))
+
+
+def part_of(picture, top, left, high, wide):
+    ask_part(picture, top, left, high, wide)
     return Picture(picture.most, [row[left:left + wide] for row in picture.rows[top:top + high]])
+
+
+def with_shades(picture, pairs):
+    rows = [list(row) for row in picture.rows]
+    for cell, shade in pairs:
+        rows[cell[0]][cell[1]] = shade
+    return Picture(picture.most, rows)
+
+
+def laid_out(most, size, pairs):
+    return with_shades(Picture(most, [[0] * size[1]] * size[0]), pairs)
 
 
 def beside(one, other):

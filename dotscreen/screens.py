@@ -6,10 +6,16 @@ from dotscreen.tiles import threshold_at
 
 
 def ask_inks(inks, most):
+    ask_rising(inks)
+    if inks[-1] != most:
+        raise NoInks("the last ink is not the most")
+
+
+def ask_rising(inks):
     if len(inks) < 2:
         raise NoInks("there are fewer than two inks")
-    if inks[0] != 0 or inks[-1] != most:
-        raise NoInks("the inks do not go from 0 to the most")
+    if inks[0] != 0:
+        raise NoInks("the first ink is not 0")
     for lesser, greater in zip(inks[:-1], inks[1:]):
         if lesser >= greater:
             raise NoInks("the inks do not rise strictly")

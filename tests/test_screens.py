@@ -8,16 +8,11 @@ from dotscreen.pictures import Picture, part_of, shades_sum
 from dotscreen.screens import ask_inks, screened
 from dotscreen.tilemaking import doubled_tile, spread_tile
 from dotscreen.tiles import Tile, threshold_at
-from tests.helpers import ENDLESS, HUGE, DotTest, made, made_tile, numbered, numbered_tile, plain
+from tests.helpers import HUGE, DotTest, inks_of, made, made_tile, numbered, numbered_tile, plain, spoilt_inks
 
 PLACES = [(0, 0), (1, 0), (0, 1), (2, 5), (-1, -1), (-7, 3), (HUGE, -HUGE), (-HUGE, HUGE - 1)]
 TILES = [made_tile(1, 1), made_tile(1, 4), made_tile(3, 1), made_tile(3, 4, 5, 2), spread_tile(2, 3), doubled_tile(2),
          Tile(HUGE, [[1, HUGE], [HUGE // 2, HUGE // 3]]), Tile(1, [[1, 1], [1, 1]]), numbered_tile(64, 1)]
-
-
-def inks_of(number, most):
-    """As many inks from 0 to most, not all as far apart."""
-    return [0] + [most * place * place // (number * number) for place in range(2, number)] + [most]
 
 
 def dot(shade, threshold, count, inks):
@@ -32,27 +27,6 @@ def dot(shade, threshold, count, inks):
 def dots(picture, tile, inks, top, left):
     return [[dot(shade, threshold_at(tile, row + top, column + left), tile.count, inks)
              for column, shade in enumerate(shades)] for row, shades in enumerate(picture.rows)]
-
-
-def spoilt_inks():
-    """Inks for a most of 9 and for one of thirty figures, each wrong in one way."""
-    for most in (9, HUGE):
-        yield from [([], most), ((), most), ([0], most), ((most,), most), ([most], most)]
-        for wrong in (1, -1, most - 1, -HUGE):
-            yield from [([wrong, most], most), ([wrong, 4, most], most)]
-        for wrong in (most - 1, most + 1, 1, ENDLESS):
-            yield from [([0, wrong], most), ((0, wrong), most)]
-        yield from [([0, 4, most - 1], most), ([0, 4, most + 1], most), ([0, 4, 6], most)]
-        yield from [([0, 0, most], most), ([0, most, most], most), ([0, 4, 4, most], most), ([0, 0], most)]
-        yield from [([0, 5, 4, most], most), ([0, 3, 6, 5, most], most), ([most, 0], most), ([0, 8, 1, most], most)]
-        yield from [([0, most + 1, most], most), ([0, 3, ENDLESS, most], most), ([0, 3, most + 1, most], most)]
-        yield from [([0, -1, most], most), ([0, 3, -1, most], most), ([0, -HUGE, most], most)]
-        for place in range(1, 19):
-            inks = list(range(19)) + [max(most, 30)]
-            inks[place], inks[place - 1] = inks[place - 1], inks[place]
-            yield list(inks), inks[-1]
-            inks[place - 1] = inks[place]
-            yield list(inks), inks[-1]
 
 
 class InksTest(DotTest):
