@@ -31,8 +31,8 @@ def made(high, wide, most=9, start=0):
 def drawn(high, wide, most, seed):
     """A picture with shades drawn from all, always the same by the same seed, and with many at 0 and at the most."""
     draw = random.Random(seed)
-    return Picture(most, [[draw.choice([0, most, draw.randint(0, most), draw.randint(0, most)]) for column in range(wide)]
-                          for row in range(high)])
+    return Picture(most, [[draw.choice([0, most, draw.randint(0, most), draw.randint(0, most)])
+                           for column in range(wide)] for row in range(high)])
 
 
 def numbered(high, wide):

@@ -12,8 +12,8 @@ from tests.helpers import (ENDLESS, HUGE, DotTest, by_rows, drawn, half_of, inks
                            plain, spoilt_inks)
 
 KNOWN = [(0, 1, 7), (1, -1, 3), (1, 0, 5), (1, 1, 1)]
-AROUND = [[(0, 1, 1)], [(1, 0, 1)], [(1, -1, 2)], [(1, 1, 3)], [(2, -3, 1), (0, 2, 1)], KNOWN, KNOWN[::-1], KNOWN + KNOWN,
-          [(0, 1, 1), (0, 1, 1)], [(0, 1, 0), (1, 0, 4)], [(0, 1, 3), (2, 5, 0), (0, 1, 3), (1, -1, 0)],
+AROUND = [[(0, 1, 1)], [(1, 0, 1)], [(1, -1, 2)], [(1, 1, 3)], [(2, -3, 1), (0, 2, 1)], KNOWN, KNOWN[::-1],
+          KNOWN + KNOWN, [(0, 1, 1), (0, 1, 1)], [(0, 1, 0), (1, 0, 4)], [(0, 1, 3), (2, 5, 0), (0, 1, 3), (1, -1, 0)],
           [(HUGE, 0, 1)], [(0, HUGE, 5), (1, -HUGE, 2)], [(HUGE, -HUGE, HUGE), (0, 1, HUGE - 1)], [(1, HUGE, 1)],
           [(0, 64, 1), (64, 0, 1), (63, -63, 1)], [(ENDLESS, -ENDLESS, 1), (0, 1, 2)],
           [(place % 3, place % 7 - (3 if place % 3 else -1), place * place % 5) for place in range(20)],
